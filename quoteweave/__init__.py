@@ -1,0 +1,1 @@
+"""Quoteweave: who holds what, by whom."""
