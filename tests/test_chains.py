@@ -2,48 +2,8 @@ import copy
 import itertools
 import unittest
 
+from helping import all_chains, most_apart, shuffled_numbers, some_web, subsets
 from quoteweave.chains import apart_chains, meets_all
-
-
-def all_chains(edges, starts, goal):
-    """Each chain to the goal, listed by going along every edge."""
-    listed = []
-    waiting = [[name] for name in sorted(set(starts) - {goal})]
-    while waiting:
-        chain = waiting.pop()
-        if (chain[-1], goal) in edges:
-            listed.append(chain)
-        behind = {second for first, second in edges if first == chain[-1]} - {goal} - set(chain)
-        waiting.extend(chain + [name] for name in sorted(behind))
-    return listed
-
-
-def most_apart(chains):
-    """How many of the listed chains can be apart, by trying each with and without."""
-    if not chains:
-        return 0
-    first = set(chains[0])
-    without = most_apart(chains[1:])
-    apart = [chain for chain in chains[1:] if not first & set(chain)]
-    if len(apart) + 1 <= without:
-        return without
-    return max(without, 1 + most_apart(apart))
-
-
-def subsets(names):
-    return [list(chosen) for many in range(len(names) + 1) for chosen in itertools.combinations(names, many)]
-
-
-def shuffled_numbers(number):
-    """Numbers that follow no plain pattern, the same in each run."""
-    while True:
-        number = number * 48271 % 2147483647
-        yield number
-
-
-def some_web(numbers, names, many):
-    """Some edges between the names, doubled ones, loops and edges out of the goal among them."""
-    return [(names[next(numbers) % len(names)], names[next(numbers) % len(names)]) for at in range(many)]
 
 
 class ChainsTest(unittest.TestCase):
