@@ -118,5 +118,8 @@ def edges_of(events, live, matter):
 
 
 def holders_in(world, web):
-    needs = [(person[0], person[3]) for person in world[0]]
-    return [name for name, chains in ground_alone(web[1], web[0], needs)]
+    return [name for name, chains in ground_alone(web[1], web[0], needs_of(world))]
+
+
+def needs_of(world):
+    return [(person[0], person[3]) for person in world[0]]

@@ -10,7 +10,8 @@ FORMS = {
     "see": ("time", "name", "name", "word"),
     "tell": ("time", "name", "name", "name", "word"),
 }
-RANGES = {"rank": (0, 99), "floor": (0, 99), "needs": (1, 4), "time": (0, 999999999)}
+NAMED = ("name", "person", "matter")
+RANGES = {"rank": (0, 99), "floor": (0, 99), "needs": (1, 4), "time": (0, 999999999), "number": (0, 999999999)}
 # Where in a row the two stand that are to be unlike.
 UNLIKE = {"against": (1, 2), "tell": (2, 3)}
 MOST_QUOTED = 6
@@ -20,14 +21,14 @@ def row_of(row, place):
     words = words_in(row)
     if len(words) == 0:
         return None
-    values = values_of(words)
+    values = values_by(form_for(words), words)
     if values is None or not are_unlike(values):
         raise BadRow(f"row {place} has none of the forms of a row", place)
     return values
 
 
-def values_of(words):
-    form = form_for(words)
+# A form, or None for a first word that has none, tells the parts behind the first word.
+def values_by(form, words):
     if form is None or len(words) != 1 + len(form):
         return None
     values = [words[0]] + [value_of(part, word) for part, word in zip(form, words[1:])]
@@ -46,7 +47,7 @@ def form_for(words):
 
 
 def value_of(part, word):
-    if part == "name":
+    if part in NAMED:
         return word if is_name(word) else None
     if part == "word":
         return word if is_word(word) else None

@@ -1,6 +1,32 @@
-"""What several tests need: chains listed one by one, and a second finding of holders and steps, word by word."""
+"""What several tests need: chains listed one by one, a second finding of holders and steps, word by word, and
+the walking of grounds, chains and cuts."""
 
+import copy
 import itertools
+import unittest
+
+PEOPLE = [("bob", 4, 4, 1), ("ann", 4, 4, 1), ("eve", 4, 4, 1), ("cid", 4, 4, 1), ("dan", 4, 4, 1)]
+NAMES = ["bob", "ann", "eve", "cid", "dan"]
+MATTERS = ["sun", "rain", "wind", "calm"]
+AGAINST = [("rain", "sun"), ("calm", "wind")]
+
+
+def world_of(events, people=PEOPLE, against=AGAINST):
+    return (list(people), list(MATTERS), list(against), list(events))
+
+
+def people_with(*changed):
+    """The people, some of them with other numbers."""
+    names = {person[0]: person for person in changed}
+    return [names.get(person[0], person) for person in PEOPLE]
+
+
+def see(time, name, matter, word="seen"):
+    return ("see", time, name, matter, word)
+
+
+def tell(time, teller, hearer, matter, by=(), word="told"):
+    return ("tell", time, teller, hearer, matter, word, by)
 
 
 def all_chains(edges, starts, goal):
@@ -88,14 +114,21 @@ def live_due(world, past, taken):
                   and not is_wrong(world, past, world[3][at][2], world[3][at][3]))
 
 
-def held_due(world, past, taken):
+def needs_due(world):
+    return [(person[0], person[3]) for person in world[0]]
+
+
+def web_due(world, past, taken, matter, struck=None):
+    """The edges of the matter's live tells, but those by somebody struck out, and who has seen it."""
+    edges = [world[3][at][2:4] for at in live_due(world, past, taken)
+             if world[3][at][4] == matter and world[3][at][2] != struck]
+    return edges, [person[0] for person in world[0] if has_seen(world, past, person[0], matter)]
+
+
+def held_due(world, past, taken, struck=None):
     """The pairs held behind these events, in the order of the people and for each of the matters."""
-    live = live_due(world, past, taken)
-    needs = [(person[0], person[3]) for person in world[0]]
-    holders = {}
-    for matter in world[1]:
-        seers = [name for name, need in needs if has_seen(world, past, name, matter)]
-        holders[matter] = holders_due([world[3][at][2:4] for at in live if world[3][at][4] == matter], seers, needs)
+    needs = needs_due(world)
+    holders = {matter: holders_due(*web_due(world, past, taken, matter, struck), needs) for matter in world[1]}
     return [(name, matter) for name, need in needs for matter in world[1] if name in holders[matter]]
 
 
@@ -130,6 +163,12 @@ def steps_due(world):
     return steps
 
 
+def end_due(world):
+    """The order of going through a world and which events are taken."""
+    steps = steps_due(world)
+    return [step[0] for step in steps], {step[0]: step[1] for step in steps}
+
+
 def some_world(numbers, people, matters, against, many, times):
     """A world with so many events, one in four or somewhat more a see."""
     events = []
@@ -157,3 +196,101 @@ def spoil(value):
     for part in lists_in(value):
         part.reverse()
         part.append("spoilt")
+
+
+class WalkTest(unittest.TestCase):
+    """Walks what is told of grounds and cuts, whichever of several it is."""
+
+    def assert_told_kinds(self, told):
+        """A pair of a ground and of cuts."""
+        self.assertIs(type(told), tuple)
+        self.assertEqual([type(part) for part in told], [list, list])
+        for pair in told[0] + told[1]:
+            self.assertIs(type(pair), tuple)
+            self.assertEqual([type(part) for part in pair], [str, list])
+        for name, chains in told[0]:
+            self.assertEqual([type(chain) for chain in chains], [list] * len(chains))
+
+    def assert_ground(self, edges, seers, needs, ground):
+        """Walked from its first to its last: each one stands by seeing or by chains of those ahead."""
+        numbers = dict(needs)
+        ahead = []
+        for name, chains in ground:
+            self.assertNotIn(name, ahead)
+            self.assertIn(name, numbers)
+            self.assertEqual(len(chains), 0 if name in seers else numbers[name], (name, chains))
+            self.assert_apart(edges, seers, name, chains)
+            for chain in chains:
+                self.assertLessEqual(set(chain), set(ahead), ground)
+            ahead.append(name)
+
+    def assert_apart(self, edges, seers, goal, chains):
+        names = [name for chain in chains for name in chain]
+        self.assertEqual(len(names), len(set(names)), chains)
+        self.assertNotIn(goal, names)
+        for chain in chains:
+            self.assertGreater(len(chain), 0)
+            self.assertIn(chain[0], seers)
+            for step in zip(chain, chain[1:] + [goal]):
+                self.assertIn(step, edges)
+
+    def assert_cuts(self, edges, seers, needs, holders, cuts):
+        others = [(name, number) for name, number in needs if name not in holders]
+        self.assertEqual([name for name, cut in cuts], [name for name, number in others])
+        people = {name for name, number in needs}
+        for (name, number), (told_name, cut) in zip(others, cuts):
+            self.assertEqual(cut, sorted(set(cut)))
+            self.assertLessEqual(set(cut), people - {name})
+            self.assertLess(len(cut), number, (name, cut))
+            for chain in chains_within(edges, seers, holders, name):
+                self.assertTrue(set(chain) & set(cut), (name, chain, cut))
+
+    def assert_holders(self, edges, seers, needs, told, holders=None):
+        """All that is promised of a ground and its cuts; the holders are told by hand or found a second time."""
+        if holders is None:
+            holders = holders_due(edges, seers, needs)
+        self.assert_told_kinds(told)
+        self.assertEqual(sorted(name for name, chains in told[0]), sorted(holders), (edges, seers, needs))
+        self.assert_ground(edges, seers, needs, told[0])
+        self.assert_cuts(edges, seers, needs, holders, told[1])
+
+
+class OwnChecks:
+    """Tests beside a TestCase with EVENTS, `asked(world)`, a list of what is told of a world, and MANY, how many
+    lists there are at least in it: what is told is the asker's own."""
+
+    def test_no_two_lists_are_one(self):
+        world = world_of(self.EVENTS)
+        told = [self.asked(world), self.asked(world), self.asked(world_of([]))]
+        lists = lists_in(told) + list(world)
+        self.assertEqual(len({id(part) for part in lists}), len(lists))
+        self.assertGreater(len(lists), self.MANY)
+
+    def test_told_lists_that_are_changed(self):
+        world = world_of(self.EVENTS)
+        before = copy.deepcopy(world)
+        kept = self.asked(world)
+        wanted = copy.deepcopy(kept)
+        for turn in range(3):
+            told = self.asked(world)
+            self.assertEqual(told, wanted)
+            spoil(told)
+            self.assertNotEqual(told, wanted)
+            self.assertEqual(kept, wanted)
+            self.assertEqual(world, before)
+        self.assertEqual(self.asked(world), wanted)
+
+    def test_handed_in_lists_that_are_changed_behind_the_answer(self):
+        world = world_of(self.EVENTS)
+        told = self.asked(world)
+        wanted = copy.deepcopy(told)
+        for part in world:
+            part.clear()
+        self.assertEqual(told, wanted)
+
+    def test_worlds_asked_by_turns(self):
+        worlds = [world_of(self.EVENTS[:many]) for many in range(len(self.EVENTS) + 1)]
+        worlds += [world_of(self.EVENTS, against=[]), world_of(self.EVENTS, people_with(("bob", 4, 4, 2)))]
+        wanted = [copy.deepcopy(self.asked(world)) for world in worlds]
+        for turn in range(2):
+            self.assertEqual([self.asked(world) for world in worlds[::-1]], wanted[::-1])

@@ -2,34 +2,11 @@ import copy
 import itertools
 import unittest
 
-from helping import drawn, is_wrong, lists_in, reasons_against, shuffled_numbers, some_world, spoil, steps_due
+from helping import (AGAINST, MATTERS, NAMES, PEOPLE, OwnChecks, drawn, is_wrong, people_with, reasons_against, see,
+                     shuffled_numbers, some_world, steps_due, tell, world_of)
 from quoteweave.going import going_order, gone, until_time, wrong_pairs
 from quoteweave.reader import read_world
 from quoteweave.showing import shown_world
-
-PEOPLE = [("bob", 4, 4, 1), ("ann", 4, 4, 1), ("eve", 4, 4, 1), ("cid", 4, 4, 1), ("dan", 4, 4, 1)]
-NAMES = ["bob", "ann", "eve", "cid", "dan"]
-MATTERS = ["sun", "rain", "wind", "calm"]
-AGAINST = [("rain", "sun"), ("calm", "wind")]
-
-
-def see(time, name, matter):
-    return ("see", time, name, matter, "seen")
-
-
-def tell(time, teller, hearer, matter, by=()):
-    return ("tell", time, teller, hearer, matter, "told", by)
-
-
-def world_of(events, people=PEOPLE, against=AGAINST):
-    return (list(people), list(MATTERS), list(against), list(events))
-
-
-def people_with(*changed):
-    """The people, some of them with other numbers."""
-    names = {person[0]: person for person in changed}
-    return [names.get(person[0], person) for person in PEOPLE]
-
 
 # Ann tells bob what she has seen, and what he then finds wrong: two tells die.
 FALLING = [see(1, "ann", "rain"), see(1, "ann", "wind"), tell(2, "ann", "bob", "rain"), tell(3, "ann", "bob", "wind"),
@@ -688,35 +665,13 @@ class Drawn(GoingTest):
         self.told(some_world(numbers, people, matters, pairs, 80, range(999999000, 999999999)))
 
 
-class Own(GoingTest):
-    EVENTS = FALLING + [see(6, "bob", "rain"), tell(6, "cid", "ann", "wind")]
+class Own(OwnChecks, GoingTest):
+    EVENTS = FALLING + [see(6, "bob", "rain"), tell(6, "cid", "ann", "wind"), tell(7, "eve", "bob", "calm"),
+                        see(8, "bob", "wind")]
+    MANY = 60
 
     def asked(self, world):
         return [gone(world), wrong_pairs(world), until_time(world, 4), going_order(world[3]), until_time(world, 99)]
-
-    def test_no_two_lists_are_one(self):
-        world = world_of(self.EVENTS)
-        told = [self.asked(world), self.asked(world), gone(world_of([])), wrong_pairs(world_of([])),
-                until_time(world_of([]), 0), until_time(world, 5), until_time(world, 5), going_order([]),
-                going_order([])]
-        lists = lists_in(told) + list(world)
-        self.assertGreater(len(lists), 60)
-        for one, other in itertools.combinations(lists, 2):
-            self.assertIsNot(one, other)
-
-    def test_told_lists_that_are_changed(self):
-        world = world_of(self.EVENTS[:6])
-        before = copy.deepcopy(world)
-        kept = self.asked(world)
-        wanted = copy.deepcopy(kept)
-        for turn in range(3):
-            told = self.asked(world)
-            self.assertEqual(told, wanted)
-            spoil(told)
-            self.assertNotEqual(told, wanted)
-            self.assertEqual(kept, wanted)
-            self.assertEqual(world, before)
-        self.assertEqual(self.asked(world), wanted)
 
     def test_one_told_list_that_is_changed_changes_no_other(self):
         world = world_of(self.EVENTS)
@@ -728,21 +683,6 @@ class Own(GoingTest):
                 self.assertEqual([step for place, step in enumerate(told) if place != at],
                                  [step for place, step in enumerate(wanted) if place != at])
                 self.assertEqual(told[at][5 - part], wanted[at][5 - part])
-
-    def test_handed_in_lists_that_are_changed_behind_the_answer(self):
-        world = world_of(self.EVENTS)
-        told = self.asked(world)
-        wanted = copy.deepcopy(told)
-        for part in world:
-            part.clear()
-        self.assertEqual(told, wanted)
-
-    def test_worlds_asked_by_turns(self):
-        worlds = [world_of(self.EVENTS[:many]) for many in range(len(self.EVENTS) + 1)]
-        worlds += [world_of(self.EVENTS, against=[]), world_of(self.EVENTS, people_with(("bob", 4, 4, 2)))]
-        wanted = [copy.deepcopy(self.asked(world)) for world in worlds]
-        for turn in range(2):
-            self.assertEqual([self.asked(world) for world in worlds[::-1]], wanted[::-1])
 
 
 if __name__ == "__main__":

@@ -2,7 +2,7 @@ import copy
 import itertools
 import unittest
 
-from helping import chains_within, drawn, has_enough, holders_due, lists_in, shuffled_numbers, some_web, spoil, subsets
+from helping import WalkTest, drawn, has_enough, lists_in, shuffled_numbers, some_web, spoil, subsets
 from quoteweave.chains import apart_chains
 from quoteweave.holders import ground_by
 
@@ -28,64 +28,20 @@ def least_closed(edges, seers, needs):
     return least
 
 
-class HoldersTest(unittest.TestCase):
+class HoldersTest(WalkTest):
     def told(self, edges, seers, needs):
         """What is told, its kinds and what was handed in looked at."""
         before = copy.deepcopy((edges, seers, needs))
         told = ground_by(edges, seers, needs)
         self.assertEqual((edges, seers, needs), before)
-        self.assertIs(type(told), tuple)
-        self.assertEqual([type(part) for part in told], [list, list])
-        for pair in told[0] + told[1]:
-            self.assertIs(type(pair), tuple)
-            self.assertEqual([type(part) for part in pair], [str, list])
-        for name, chains in told[0]:
-            self.assertEqual([type(chain) for chain in chains], [list] * len(chains))
+        self.assert_told_kinds(told)
         return told
-
-    def assert_ground(self, edges, seers, needs, ground):
-        """Walked from its first to its last: each one stands by seeing or by chains of those ahead."""
-        numbers = dict(needs)
-        ahead = []
-        for name, chains in ground:
-            self.assertNotIn(name, ahead)
-            self.assertIn(name, numbers)
-            self.assertEqual(len(chains), 0 if name in seers else numbers[name], (name, chains))
-            self.assert_apart(edges, seers, name, chains)
-            for chain in chains:
-                self.assertLessEqual(set(chain), set(ahead), ground)
-            ahead.append(name)
-
-    def assert_apart(self, edges, seers, goal, chains):
-        names = [name for chain in chains for name in chain]
-        self.assertEqual(len(names), len(set(names)), chains)
-        self.assertNotIn(goal, names)
-        for chain in chains:
-            self.assertGreater(len(chain), 0)
-            self.assertIn(chain[0], seers)
-            for step in zip(chain, chain[1:] + [goal]):
-                self.assertIn(step, edges)
-
-    def assert_cuts(self, edges, seers, needs, holders, cuts):
-        others = [(name, number) for name, number in needs if name not in holders]
-        self.assertEqual([name for name, cut in cuts], [name for name, number in others])
-        people = {name for name, number in needs}
-        for (name, number), (told_name, cut) in zip(others, cuts):
-            self.assertEqual(cut, sorted(set(cut)))
-            self.assertLessEqual(set(cut), people - {name})
-            self.assertLess(len(cut), number, (name, cut))
-            for chain in chains_within(edges, seers, holders, name):
-                self.assertTrue(set(chain) & set(cut), (name, chain, cut))
 
     def assert_web(self, edges, seers, needs, holders=None):
         """All that is promised of the web; its holders are told by hand or found a second time."""
-        if holders is None:
-            holders = holders_due(edges, seers, needs)
-        ground, cuts = self.told(edges, seers, needs)
-        self.assertEqual(sorted(name for name, chains in ground), sorted(holders), (edges, seers, needs))
-        self.assert_ground(edges, seers, needs, ground)
-        self.assert_cuts(edges, seers, needs, holders, cuts)
-        return ground, cuts
+        told = self.told(edges, seers, needs)
+        self.assert_holders(edges, seers, needs, told, holders)
+        return told
 
     def assert_all_orders(self, edges, seers, needs, holders):
         """The holders are the same whatever the order of the people and of the edges."""
